@@ -1,0 +1,1 @@
+"""Turtlehouse: a hand that walks by turns and steps."""
