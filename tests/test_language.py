@@ -25,6 +25,17 @@ BARRED_NODES = (
     ast.AsyncFor, ast.AsyncWith, ast.NamedExpr, ast.GeneratorExp, ast.Div, ast.MatMult, ast.Import, ast.TryStar,
 )
 
+# Methods of Python's own values, those of L25 that the package has a use for.
+ALLOWED_METHODS = set(
+    "append clear copy count endswith extend find get index insert isalnum isalpha isdigit islower isspace isupper"
+    " items join keys ljust lower lstrip partition pop remove replace reverse rfind rjust rpartition rsplit rstrip"
+    " setdefault split splitlines startswith strip update upper values zfill bit_length".split()
+)
+BARRED_VALUES = set(
+    "items keys values pop update append clear extend insert remove reverse setdefault sort args encode decode hex"
+    " fromhex format".split()
+)
+
 
 def names_bound(tree):
     """Each name that a file binds, with its row."""
@@ -111,6 +122,58 @@ class LanguageTest(unittest.TestCase):
                     source = (PACKAGE / (node.module.split(".")[1] + ".py")).read_text(encoding="utf-8")
                     for alias in node.names:
                         self.assertIn(alias.name, list(top_names(ast.parse(source))))
+
+    def test_no_name_of_an_import_is_given_anew(self):
+        for file, text, tree in self.each_file():
+            drawn = {alias.name for node in tree.body if isinstance(node, ast.ImportFrom) for alias in node.names}
+            classes = {node.name for node in tree.body if isinstance(node, ast.ClassDef)}
+            for node in ast.walk(tree):
+                if isinstance(node, ast.arg):
+                    self.assertNotIn(node.arg, drawn | classes, (file, node.lineno))
+                if isinstance(node, ast.Name) and isinstance(node.ctx, ast.Store):
+                    self.assertNotIn(node.id, drawn | classes, (file, node.lineno))
+
+    def test_no_files_draw_from_one_another(self):
+        draws = {}
+        for file, text, tree in self.each_file():
+            rows = [node for node in tree.body if isinstance(node, ast.ImportFrom)]
+            draws[file] = {row.module.split(".")[1] + ".py" for row in rows}
+            self.assertFalse(file == "__init__.py" and rows)
+        while draws:
+            free = [file for file in draws if not draws[file] & set(draws)]
+            self.assertTrue(free, sorted(draws))
+            for file in free:
+                del draws[file]
+
+    def test_methods_and_values(self):
+        methods, values = set(), set()
+        for file, text, tree in self.each_file():
+            for node in ast.walk(tree):
+                if isinstance(node, ast.ClassDef):
+                    self.assertIn(node, tree.body, file)
+                    methods.update(row.name for row in node.body if isinstance(row, ast.FunctionDef))
+                    rows = [row for row in node.body if not isinstance(row, ast.FunctionDef)]
+                    self.assertTrue(all(isinstance(row, ast.Expr) for row in rows), (file, node.name))
+                if isinstance(node, ast.Attribute) and isinstance(node.ctx, ast.Store):
+                    values.add(node.attr)
+        self.assertFalse(methods & values)
+        self.assertFalse(values & (BARRED_VALUES | {"play", "take_back", "played", "left", "drawn", "place"}))
+        self.assertFalse((methods | values) & (set(dir(str)) | set(dir(list)) | set(dir(dict)) | set(dir(int)))
+                         - DUNDERS - {"count", "index"})
+        for file, text, tree in self.each_file():
+            called = {node.func for node in ast.walk(tree) if isinstance(node, ast.Call)}
+            for node in ast.walk(tree):
+                if isinstance(node, ast.Attribute) and node in called:
+                    self.assertIn(node.attr, methods | ALLOWED_METHODS, (file, node.lineno))
+                elif isinstance(node, ast.Attribute):
+                    self.assertIn(node.attr, values, (file, node.lineno))
+
+    def test_tops_are_only_read(self):
+        for file, text, tree in self.each_file():
+            for node in tree.body:
+                if isinstance(node, ast.Assign) and isinstance(node.value, (ast.List, ast.Dict)):
+                    parts = node.value.elts if isinstance(node.value, ast.List) else node.value.values
+                    self.assertFalse(any(isinstance(part, (ast.List, ast.Dict)) for part in parts), file)
 
 
 if __name__ == "__main__":

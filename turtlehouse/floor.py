@@ -6,6 +6,8 @@ how far to the east and how far to the north.
 
 ROUND = 8
 
+BEGINNING = ((0, 0), (0, 0))
+
 # By heading: what one step adds to the number to the east, and to that to the north.
 STEPS = (
     ((1, 0), (0, 0)),
@@ -22,6 +24,11 @@ STEPS = (
 def plus(one, other):
     """The sum of two numbers."""
     return (one[0] + other[0], one[1] + other[1])
+
+
+def minus(one, other):
+    """The first of two numbers less the second."""
+    return (one[0] - other[0], one[1] - other[1])
 
 
 def times(number, factor):
@@ -50,6 +57,35 @@ def sign_of(number):
     return sign_of_int(second)
 
 
+def is_less(one, other):
+    """Whether the first of two numbers is less than the second."""
+    return sign_of(minus(one, other)) < 0
+
+
+def joined_in_order(one, other):
+    """Two lists that are in order, as one list that is."""
+    told = []
+    at = 0
+    for row in other:
+        while at < len(one) and not is_less(row[0], one[at][0]):
+            told.append(one[at])
+            at += 1
+        told.append(row)
+    return told + one[at:]
+
+
+def in_order(rows):
+    """Tuples that begin with a number, as a list that rises by these numbers."""
+    # Python would hold two numbers against each other int by int, which is not how they
+    # rise: so short lists are joined to longer ones till there is only one.
+    parts = [[row] for row in rows]
+    while len(parts) > 1:
+        if len(parts) % 2 == 1:
+            parts.append([])
+        parts = [joined_in_order(parts[at], parts[at + 1]) for at in range(0, len(parts), 2)]
+    return parts[0] if parts else []
+
+
 def moved(place, heading, steps):
     """The place so many steps by a heading away; backwards where steps is below 0."""
     x, y = place
@@ -68,7 +104,7 @@ def turned_by_one(place):
     # The second ints of x and y are both even or both odd, so those of the difference
     # and of the sum are even, and nothing is lost by halving them.
     x, y = place
-    return (times_half_root(plus(x, times(y, -1))), times_half_root(plus(x, y)))
+    return (times_half_root(minus(x, y)), times_half_root(plus(x, y)))
 
 
 def turned_place(place, eighths):
