@@ -6,6 +6,13 @@ how far to the east and how far to the north.
 
 ROUND = 8
 
+# The headings by which lines are told: of the two ways along one, that to the east, or to the north.
+EAST = 0
+NORTH_EAST = 1
+NORTH = 2
+SOUTH_EAST = 7
+
+NOTHING = (0, 0)
 BEGINNING = ((0, 0), (0, 0))
 
 # By heading: what one step adds to the number to the east, and to that to the north.
@@ -91,6 +98,12 @@ def moved(place, heading, steps):
     x, y = place
     east, north = STEPS[heading % ROUND]
     return (plus(x, times(east, steps)), plus(y, times(north, steps)))
+
+
+def times_root(number):
+    """A number times the root of two."""
+    # The root of two is two of its halves, and half of it times the whole is one.
+    return (number[1], 2 * number[0])
 
 
 def times_half_root(number):

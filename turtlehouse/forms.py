@@ -1,36 +1,45 @@
 """Drawings laid into one form, and held against each other."""
 
-from turtlehouse.floor import in_order, is_less, minus, plus
+from turtlehouse.floor import EAST, NORTH, NORTH_EAST, NOTHING, SOUTH_EAST, in_order, is_less, minus, plus, times
 
-NOTHING = (0, 0)
+# By the heading of a line: how many times x and y are taken, so that they come to the same at all of its places.
+ACROSS = {0: (0, 1), 1: (-1, 1), 2: (-1, 0), 7: (1, 1)}
 
-EAST = "east"
-NORTH = "north"
-NORTH_EAST = "north-east"
-SOUTH_EAST = "south-east"
+
+def heading_of(start, end):
+    """The heading of the line on which two places lie."""
+    east = minus(end[0], start[0])
+    north = minus(end[1], start[1])
+    if north == NOTHING:
+        return EAST
+    if east == NOTHING:
+        return NORTH
+    return NORTH_EAST if east == north else SOUTH_EAST
+
+
+def aside(heading, place):
+    """How far a line of that heading through a place lies to the left: the same at all of its places alone."""
+    x, y = place
+    return plus(times(x, ACROSS[heading][0]), times(y, ACROSS[heading][1]))
 
 
 def line_of(start, end):
-    """The line on which two places lie: its direction, and a number that tells it from others of that."""
-    x, y = start
-    east = minus(end[0], x)
-    north = minus(end[1], y)
-    if north == NOTHING:
-        return (EAST, y)
-    if east == NOTHING:
-        return (NORTH, x)
-    if east == north:
-        return (NORTH_EAST, minus(y, x))
-    return (SOUTH_EAST, plus(y, x))
+    """The line on which two places lie: its heading, and a number that tells it from others of that."""
+    heading = heading_of(start, end)
+    return (heading, aside(heading, start))
 
 
-def stretch_of(direction, start, end):
-    """How far along its line a stroke begins and ends, and the places there: (low, high, from, to)."""
+def along(heading, place):
+    """How far along its line of that heading a place lies."""
     # On a line to the north all places are as far to the east as each other.
-    axis = 1 if direction == NORTH else 0
-    if is_less(end[axis], start[axis]):
+    return place[1] if heading == NORTH else place[0]
+
+
+def stretch_of(heading, start, end):
+    """How far along its line a stroke begins and ends, and the places there: (low, high, from, to)."""
+    if is_less(along(heading, end), along(heading, start)):
         start, end = end, start
-    return (start[axis], end[axis], start, end)
+    return (along(heading, start), along(heading, end), start, end)
 
 
 def joined(stretches):

@@ -1,17 +1,12 @@
 """Programs put in: said by gos, turns, ups, downs and inks alone."""
 
 from turtlehouse.errors import TooGreat, TooLong
-from turtlehouse.floor import ROUND, minus
+from turtlehouse.floor import EAST, NORTH, NORTH_EAST, ROUND, SOUTH_EAST, minus
 from turtlehouse.hands import Hand
 from turtlehouse.programs import MOST_AMOUNT
 from turtlehouse.runs import walked
 
 MOST_BACKS = 100
-
-EAST = 0
-NORTH_EAST = 1
-NORTH = 2
-SOUTH_EAST = 7
 
 
 def legs_between(start, end):
