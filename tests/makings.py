@@ -168,3 +168,16 @@ class SecondHand:
     def told(self):
         end = (self.place(), self.heading, self.down, self.ink)
         return (self.strokes, self.corners, end, self.turned, self.done)
+
+
+def plain_body(lot, many, low=-9, high=9):
+    """So many statements of a plain program."""
+    kinds = ("go", "go", "go", "turn", "turn", "up", "down", "down", "ink")
+    firsts = [lot.choice(kinds) for _ in range(many)]
+    return tuple((first,) if first in ("up", "down") else (first, lot.randint(low, high)) for first in firsts)
+
+
+def begins_anew(strokes):
+    """How many times some strokes begin anew."""
+    ends = [None] + [stroke[2] for stroke in strokes]
+    return sum(stroke[1] != end for stroke, end in zip(strokes, ends))

@@ -6,10 +6,10 @@ from turtlehouse.programs import MOST_AMOUNT, MOST_SIZE, size_of
 
 def int_times(value, factor):
     """An int of an amount, taken so many times."""
-    value *= factor
-    if not -MOST_AMOUNT <= value <= MOST_AMOUNT:
+    product = value * factor
+    if not -MOST_AMOUNT <= product <= MOST_AMOUNT:
         raise TooGreat("an amount would be more than is allowed")
-    return value
+    return product
 
 
 def amount_times(amount, factor):

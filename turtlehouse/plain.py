@@ -29,19 +29,29 @@ def turn_between(heading, wanted):
     return [("turn", eighths)] if eighths != 0 else []
 
 
+def way_to(start, heading, end):
+    """Turns and gos that lead from one place, by the heading there, to another; and the heading then."""
+    statements = []
+    for wanted, steps in legs_between(start, end):
+        if not -MOST_AMOUNT <= steps <= MOST_AMOUNT:
+            raise TooGreat("a place lies too far away")
+        if steps != 0:
+            statements.extend(turn_between(heading, wanted) + [("go", steps)])
+            heading = wanted
+    return (statements, heading)
+
+
+def with_pen_up(statements):
+    """What draws nothing, and leaves a pen that was down so again."""
+    return [("up",)] + statements + [("down",)]
+
+
 def way_back(hand, number):
     """Plain statements by which a hand comes to a mark and stands there as it is to."""
     spot, heading = hand.marks[number]
-    now = hand.heading
-    statements = [("up",)] if hand.down else []
-    for wanted, steps in legs_between(hand.spot, spot):
-        if not -MOST_AMOUNT <= steps <= MOST_AMOUNT:
-            raise TooGreat("a mark lies too far away")
-        if steps != 0:
-            statements.extend(turn_between(now, wanted) + [("go", steps)])
-            now = wanted
+    statements, now = way_to(hand.spot, hand.heading, spot)
     statements.extend(turn_between(now, heading))
-    return statements + ([("down",)] if hand.down else [])
+    return with_pen_up(statements) if hand.down else statements
 
 
 def put_in(program, most):
